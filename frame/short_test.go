@@ -63,10 +63,10 @@ func TestShortErrorsInSmallFrames(t *testing.T) {
 	}
 }
 
-// P2.4: every pattern within 16 bits, at each of the 8 bits where it may begin in a byte.
+// P2.4: every pattern within 16 bits, at each bit where it may begin.
 func TestAllErrorsWithinSixteenBits(t *testing.T) {
 	f, _ := frame.Put([]byte("123"))
-	for from := 8; from < 8*len(f); from += 5 {
+	for from := range 8 * len(f) {
 		for p := uint32(1); p < 1<<16; p += 2 {
 			checkDetected(t, f, from, p)
 		}
