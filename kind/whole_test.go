@@ -4,6 +4,7 @@ import (
 	"regexp"
 	"strings"
 	"testing"
+	"unsafe"
 
 	"squinch/api"
 	"squinch/kind"
@@ -153,5 +154,25 @@ func TestLongStrings(t *testing.T) {
 	for _, s := range []string{"A", "a", "1", "int", "[]", "[", "]", ".", "é", "\xff", "\x00"} {
 		check(t, strings.Repeat(s, 1<<18), facts{})
 		check(t, "A"+strings.Repeat(s, 1<<18), facts{})
+	}
+}
+
+// shares reports whether a string lies in the memory of another.
+func shares(part, whole string) bool {
+	for i := range len(whole) {
+		if unsafe.StringData(part) == unsafe.StringData(whole[i:]) {
+			return true
+		}
+	}
+	return false
+}
+
+// The rule that results are newly allocated.
+func TestResultsAreNew(t *testing.T) {
+	array, member := "Node[][]", "Node.next"
+	of, _ := kind.Of(array)
+	class, name, _ := kind.Parts(member)
+	if shares(of, array) || shares(kind.Elem(array), array) || shares(class, member) || shares(name, member) {
+		t.Error("a result shares the memory of an argument")
 	}
 }
